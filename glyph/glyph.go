@@ -3,6 +3,7 @@ package glyph
 
 import (
 	"glyph/api"
+	"glyph/chord"
 	"glyph/outline"
 	"glyph/place"
 )
@@ -20,13 +21,13 @@ func Segments(o [][]api.Point) ([]api.Segment, api.Errno) { return outline.Segme
 func Place(m api.Map, s api.Spot) (api.Spot, api.Errno) { return place.Place(m, s) }
 
 // Curve tells the spots through which the chords of a segment go (P6).
-func Curve(g api.Segment) ([]api.Spot, api.Errno) { return nil, api.OK }
+func Curve(g api.Segment) ([]api.Spot, api.Errno) { return chord.Curve(g) }
 
 // Trace tells the rings of an outline that has been placed (P7).
-func Trace(o [][]api.Point, m api.Map) ([][]api.Spot, api.Errno) { return nil, api.OK }
+func Trace(o [][]api.Point, m api.Map) ([][]api.Spot, api.Errno) { return chord.Trace(o, m) }
 
 // Cuts tells where a chord is cut (P8).
-func Cuts(a api.Spot, b api.Spot) ([]api.Spot, api.Errno) { return nil, api.OK }
+func Cuts(a api.Spot, b api.Spot) ([]api.Spot, api.Errno) { return chord.Cuts(a, b) }
 
 // New makes a canvas (P9).
 func New(w int, h int, store int) (*Canvas, api.Errno) { return nil, api.OK }

@@ -1,6 +1,10 @@
 package glyph_test
 
-import "glyph/api"
+import (
+	"slices"
+
+	"glyph/api"
+)
 
 const (
 	top    = 1<<63 - 1
@@ -48,14 +52,6 @@ func kindLists(n int, some []int) [][]int {
 	return all
 }
 
-func sameSegments(a, b []api.Segment) bool {
-	if len(a) != len(b) {
-		return false
-	}
-	for i := range a {
-		if a[i] != b[i] {
-			return false
-		}
-	}
-	return true
-}
+func sameSegments(a, b []api.Segment) bool { return slices.Equal(a, b) }
+func sameSpots(a, b []api.Spot) bool       { return slices.Equal(a, b) }
+func sameRings(a, b [][]api.Spot) bool     { return slices.EqualFunc(a, b, sameSpots) }

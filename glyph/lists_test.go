@@ -51,6 +51,40 @@ func TestP1PlacesOfAllNumbers(t *testing.T) {
 	}
 }
 
+func TestP1ChordsOfAllNumbers(t *testing.T) {
+	for _, v := range wild {
+		for _, w := range wild {
+			for kind := -1; kind <= 3; kind++ {
+				g := api.Segment{Kind: kind, From: at(v, w), First: at(w, v), Second: at(v, v), To: at(w, w)}
+				if l, e := glyph.Curve(g); (e == api.OK) != (len(l) > 0) {
+					t.Errorf("P1: Curve(%v) = %v, %d", g, l, e)
+				}
+			}
+			if l, e := glyph.Cuts(at(v, w), at(w, v)); (e == api.OK) != (len(l) > 0) {
+				t.Errorf("P1: Cuts = %v, %d", l, e)
+			}
+		}
+		if l, e := glyph.Curve(api.Segment{Kind: v}); (e == api.OK) != (len(l) > 0) {
+			t.Errorf("P1: Curve of the kind %d = %v, %d", v, l, e)
+		}
+	}
+}
+
+func TestP1RingsOfAllNumbers(t *testing.T) {
+	for _, v := range wild {
+		for k, o := range outlinesOf(v) {
+			first, _, _ := glyph.Check(o)
+			for _, w := range wild {
+				m := api.Map{XX: w, XY: v, YX: v, YY: w, DX: v, DY: w}
+				l, e := glyph.Trace(o, m)
+				if first != api.OK && e != first || e != api.OK && len(l) != 0 || e == api.OK && len(l) != len(o) {
+					t.Errorf("P1: Trace of outline %d by %d on %v = %v, %d, but Check %d", k, v, m, l, e, first)
+				}
+			}
+		}
+	}
+}
+
 // TestP1FirstNamed: where several errors apply, the one that is named first.
 func TestP1FirstNamed(t *testing.T) {
 	worst := make([][]api.Point, 17)
@@ -67,6 +101,15 @@ func TestP1FirstNamed(t *testing.T) {
 	}
 	if _, e := glyph.Place(bad, at(8192, 0)); e != api.ErrMap {
 		t.Errorf("P1: Place = %d, want ErrMap", e)
+	}
+	if _, e := glyph.Curve(api.Segment{Kind: 3, From: at(top, 0)}); e != api.ErrShape {
+		t.Errorf("P1: Curve = %d, want ErrShape", e)
+	}
+	if _, e := glyph.Trace(worst, bad); e != api.ErrMany {
+		t.Errorf("P1: Trace = %d, want ErrMany", e)
+	}
+	if _, e := glyph.Trace([][]api.Point{{on(4096, 0), on(0, 0)}}, bad); e != api.ErrMap {
+		t.Errorf("P1: Trace = %d, want ErrMap", e)
 	}
 }
 
@@ -106,6 +149,12 @@ func TestP2NothingWrittenInto(t *testing.T) {
 	}
 	if _, e := glyph.Segments(o); e != api.OK || !sameOutlines(o, roomy()) {
 		t.Errorf("P2: Segments = %d, left %v", e, o[:cap(o)])
+	}
+	if _, e := glyph.Trace(o, plain); e != api.OK || !sameOutlines(o, roomy()) {
+		t.Errorf("P2: Trace = %d, left %v", e, o[:cap(o)])
+	}
+	if _, e := glyph.Trace(o, huge); e != api.ErrRange || !sameOutlines(o, roomy()) {
+		t.Errorf("P2: Trace = %d, left %v", e, o[:cap(o)])
 	}
 	// A refusal leaves things alone too.
 	o[1][2].Kind = api.Cubic
@@ -156,5 +205,97 @@ func TestP2NothingKept(t *testing.T) {
 	}
 	if e, a, b := glyph.Check(roomy()); e != api.OK || a != 0 || b != 0 {
 		t.Errorf("P2: Check hangs on an earlier call: %d, %d, %d", e, a, b)
+	}
+}
+
+var marked = at(-99999, 99999)
+
+// markAll: writes into a list and into its spare room.
+func markAll(l []api.Spot) {
+	l = l[:cap(l)]
+	for i := range l {
+		l[i] = marked
+	}
+}
+
+func hasMark(l []api.Spot) bool {
+	for _, s := range l[:cap(l)] {
+		if s == marked {
+			return true
+		}
+	}
+	return false
+}
+
+func TestP2FreshChords(t *testing.T) {
+	g := curve3(at(0, 0), at(0, 64), at(64, 64), at(64, 0))
+	a, b := at(10, 20), at(1500, 1000)
+	for _, x := range []struct {
+		name  string
+		one   func() []api.Spot
+		wants []api.Spot
+	}{
+		{"Curve", func() []api.Spot { l, _ := glyph.Curve(g); return l }, curveWanted(g)},
+		{"Curve of a Line", func() []api.Spot { l, _ := glyph.Curve(line(a, b)); return l }, []api.Spot{a, b}},
+		{"Cuts", func() []api.Spot { l, _ := glyph.Cuts(a, b); return l }, cutsWanted(a, b)},
+		{"Cuts without a cut", func() []api.Spot { l, _ := glyph.Cuts(a, a); return l }, []api.Spot{a, a}},
+	} {
+		first, second := x.one(), x.one()
+		markAll(first)
+		if !sameSpots(second, x.wants) || hasMark(second) {
+			t.Errorf("P2: %s: a list that came out shares something: %v", x.name, second)
+		}
+		if third := x.one(); !sameSpots(third, x.wants) || hasMark(third) {
+			t.Errorf("P2: %s: an answer hangs on what was done to an earlier one: %v", x.name, third)
+		}
+	}
+}
+
+func TestP2FreshRings(t *testing.T) {
+	o := [][]api.Point{
+		contourOf([]int{0, 1, 1, 0, 2, 2}), contourOf([]int{1, 1, 1}), contourOf([]int{0, 0}), contourOf([]int{0, 0, 0}),
+	}
+	for _, m := range []api.Map{plain, {XX: 9000, YY: 8000}, {}} {
+		want, _ := traceWanted(o, m)
+		for k := range o {
+			a, e := glyph.Trace(o, m)
+			b, f := glyph.Trace(o, m)
+			if e != api.OK || f != api.OK || len(a) != len(o) {
+				t.Fatalf("P2: Trace = %d, %d", e, f)
+			}
+			markAll(a[k])
+			for i := range a {
+				if i != k && (!sameSpots(a[i], want[i]) || hasMark(a[i])) {
+					t.Errorf("P2: ring %d shares something with ring %d: %v", i, k, a[i])
+				}
+			}
+			outer := a[:cap(a)]
+			for i := range outer {
+				outer[i] = []api.Spot{marked}
+			}
+			if !sameRings(b, want) || hasMark(b[k]) {
+				t.Errorf("P2: two answers of Trace share something: %v, want %v", b, want)
+			}
+			spare := b[len(b):cap(b)]
+			for i := range spare {
+				if spare[i] != nil {
+					t.Errorf("P2: two answers of Trace share their spare room")
+				}
+			}
+		}
+	}
+}
+
+func TestP2RingsKeepNothing(t *testing.T) {
+	o := roomy()
+	want, _ := traceWanted(o, plain)
+	l, e := glyph.Trace(o, plain)
+	for _, c := range o {
+		for i := range c {
+			c[i] = on(1, 1)
+		}
+	}
+	if e != api.OK || !sameRings(l, want) {
+		t.Errorf("P2: what came out changed with what was handed in: %v, want %v", l, want)
 	}
 }

@@ -4,16 +4,29 @@ import "glyph/api"
 
 // Segments tells the lines and curves of an outline, in doubled numbers (P4).
 func Segments(o [][]api.Point) ([]api.Segment, api.Errno) {
-	e, _, _ := Check(o)
+	rings, e := Rings(o)
 	if e != api.OK {
 		return nil, e
 	}
 	var all []api.Segment
-	for _, c := range o {
-		ring := ringSegments(c)
-		all = append(all, ring...)
+	for _, r := range rings {
+		all = append(all, r...)
 	}
 	return all, api.OK
+}
+
+// Rings tells the same segments, but those of each contour in a list of their own.
+func Rings(o [][]api.Point) ([][]api.Segment, api.Errno) {
+	e, _, _ := Check(o)
+	if e != api.OK {
+		return nil, e
+	}
+	var rings [][]api.Segment
+	for _, c := range o {
+		r := ringSegments(c)
+		rings = append(rings, r)
+	}
+	return rings, api.OK
 }
 
 // ringSegments tells the segments of one contour, which Check has found to be well shaped.

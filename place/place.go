@@ -18,12 +18,16 @@ func Place(m api.Map, s api.Spot) (api.Spot, api.Errno) {
 		return api.Spot{}, api.ErrMap
 	}
 	var p api.Spot
-	p.X = m.DX + whole.HalfUp(m.XX*s.X+m.XY*s.Y, unit)
-	p.Y = m.DY + whole.HalfUp(m.YX*s.X+m.YY*s.Y, unit)
+	p.X = m.DX + scaled(m.XX*s.X+m.XY*s.Y)
+	p.Y = m.DY + scaled(m.YX*s.X+m.YY*s.Y)
 	if !InRange(p) {
 		return api.Spot{}, api.ErrRange
 	}
 	return p, api.OK
+}
+
+func scaled(n int) int {
+	return int(whole.HalfUp(int64(n), unit))
 }
 
 // Fair tells whether the numbers of a map are such as may be.
