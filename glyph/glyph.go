@@ -3,13 +3,16 @@ package glyph
 
 import (
 	"glyph/api"
+	"glyph/canvas"
 	"glyph/chord"
 	"glyph/outline"
 	"glyph/place"
 )
 
 // Canvas is a window on which outlines are laid.
-type Canvas struct{}
+type Canvas struct {
+	own canvas.Canvas
+}
 
 // Check tells whether contours are an outline (P3).
 func Check(o [][]api.Point) (api.Errno, int, int) { return outline.Check(o) }
@@ -30,29 +33,37 @@ func Trace(o [][]api.Point, m api.Map) ([][]api.Spot, api.Errno) { return chord.
 func Cuts(a api.Spot, b api.Spot) ([]api.Spot, api.Errno) { return chord.Cuts(a, b) }
 
 // New makes a canvas (P9).
-func New(w int, h int, store int) (*Canvas, api.Errno) { return nil, api.OK }
+func New(w int, h int, store int) (*Canvas, api.Errno) {
+	own, e := canvas.New(w, h, store)
+	if e != api.OK {
+		return nil, e
+	}
+	return &Canvas{own: own}, api.OK
+}
 
 // Add lays an outline on the canvas (P10).
-func (c *Canvas) Add(o [][]api.Point, m api.Map) api.Errno { return api.OK }
+func (c *Canvas) Add(o [][]api.Point, m api.Map) api.Errno { return c.own.Add(o, m) }
 
 // Take takes an outline away from the canvas (P10).
-func (c *Canvas) Take(o [][]api.Point, m api.Map) api.Errno { return api.OK }
+func (c *Canvas) Take(o [][]api.Point, m api.Map) api.Errno { return c.own.Take(o, m) }
 
 // Clear makes the canvas empty (P10).
-func (c *Canvas) Clear() {}
+func (c *Canvas) Clear() { c.own.Clear() }
 
 // Taken tells how many outlines the canvas took (P10).
-func (c *Canvas) Taken() int { return 0 }
+func (c *Canvas) Taken() int { return c.own.Taken() }
 
 // Area tells the area of a pixel (P11).
-func (c *Canvas) Area(x int, y int) (int, api.Errno) { return 0, api.OK }
+func (c *Canvas) Area(x int, y int) (int, api.Errno) { return c.own.Area(x, y) }
 
 // Gray tells the picture of a part of the window (P12).
-func (c *Canvas) Gray(x int, y int, w int, h int) (api.Gray, api.Errno) { return api.Gray{}, api.OK }
+func (c *Canvas) Gray(x int, y int, w int, h int) (api.Gray, api.Errno) {
+	return c.own.Gray(x, y, w, h)
+}
 
 // Render tells the picture of one outline (P13).
 func Render(o [][]api.Point, m api.Map, w int, h int) (api.Gray, api.Errno) {
-	return api.Gray{}, api.OK
+	return canvas.Render(o, m, w, h)
 }
 
 // Encode writes a picture as a text (P14).

@@ -22,6 +22,14 @@ func Greater(a int, b int) int {
 	return b
 }
 
+// Lesser tells the lesser of two numbers.
+func Lesser(a int, b int) int {
+	if a < b {
+		return a
+	}
+	return b
+}
+
 // HalfUp tells n/d rounded half up: the greatest whole number that is at most n/d plus one half.
 // A fraction has a d from 1 on; what has another one is told as 0, so that nothing divides by nought.
 // (The numbers of a cubic curve need more than 32 bits, and an int may have no more than these.)

@@ -67,7 +67,7 @@ func TestWithin(t *testing.T) {
 	}
 }
 
-func TestSizeAndGreater(t *testing.T) {
+func TestSizeGreaterLesser(t *testing.T) {
 	for _, x := range []struct{ n, want int }{{0, 0}, {1, 1}, {-1, 1}, {7, 7}, {-7, 7}, {top, top}, {bottom + 1, top}} {
 		if got := Size(x.n); got != x.want {
 			t.Errorf("Size(%d) = %d, want %d", x.n, got, x.want)
@@ -76,6 +76,11 @@ func TestSizeAndGreater(t *testing.T) {
 	for _, x := range []struct{ a, b, want int }{{0, 0, 0}, {1, 2, 2}, {2, 1, 2}, {-1, -2, -1}, {bottom, top, top}} {
 		if got := Greater(x.a, x.b); got != x.want {
 			t.Errorf("Greater(%d, %d) = %d, want %d", x.a, x.b, got, x.want)
+		}
+	}
+	for _, x := range []struct{ a, b, want int }{{0, 0, 0}, {1, 2, 1}, {2, 1, 1}, {-1, -2, -2}, {bottom, top, bottom}} {
+		if got := Lesser(x.a, x.b); got != x.want {
+			t.Errorf("Lesser(%d, %d) = %d, want %d", x.a, x.b, got, x.want)
 		}
 	}
 }
