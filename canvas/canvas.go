@@ -4,6 +4,7 @@ package canvas
 import (
 	"glyph/api"
 	"glyph/chord"
+	"glyph/picture"
 )
 
 // The stores: how a canvas keeps its sums.
@@ -24,17 +25,12 @@ type Canvas struct {
 
 // New makes a canvas with no outline on it (P9).
 func New(w int, h int, store int) (Canvas, api.Errno) {
-	if !isSide(w) || !isSide(h) || store != asTable && store != byRow {
+	if !picture.IsSide(w) || !picture.IsSide(h) || store != asTable && store != byRow {
 		return Canvas{}, api.ErrSize
 	}
 	c := Canvas{w: w, h: h, store: store}
 	c.Clear()
 	return c, api.OK
-}
-
-// isSide tells whether a window may have so many columns or rows.
-func isSide(n int) bool {
-	return n >= 1 && n <= api.MaxSide
 }
 
 // Clear makes the canvas empty (P10).

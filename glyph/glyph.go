@@ -6,6 +6,7 @@ import (
 	"glyph/canvas"
 	"glyph/chord"
 	"glyph/outline"
+	"glyph/picture"
 	"glyph/place"
 )
 
@@ -67,12 +68,12 @@ func Render(o [][]api.Point, m api.Map, w int, h int) (api.Gray, api.Errno) {
 }
 
 // Encode writes a picture as a text (P14).
-func Encode(g api.Gray) (string, api.Errno) { return "", api.OK }
+func Encode(g api.Gray) (string, api.Errno) { return picture.Encode(g) }
 
 // Decode reads a picture from a text (P15).
-func Decode(s string) (api.Gray, api.Errno) { return api.Gray{}, api.OK }
+func Decode(s string) (api.Gray, api.Errno) { return picture.Decode(s) }
 
 // Lay lays one picture over another (P16).
 func Lay(under api.Gray, over api.Gray, x int, y int, way int) (api.Gray, api.Errno) {
-	return api.Gray{}, api.OK
+	return picture.Lay(under, over, x, y, way)
 }
